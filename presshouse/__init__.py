@@ -1,0 +1,1 @@
+"""Presshouse: bytes pressed whole in small, each step the least."""

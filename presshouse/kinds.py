@@ -1,0 +1,33 @@
+"""Kinds of values, and bytes as texts of signs."""
+
+from presshouse.errors import BadBytes, BadHex
+
+SIGNS = "0123456789abcdef"
+
+
+def is_number(told, least, most):
+    """Whether this is a whole number from least to most."""
+    # Python takes True and False for 1 and 0; the document does not.
+    if isinstance(told, bool) or not isinstance(told, int):
+        return False
+    return least <= told <= most
+
+
+def are_numbers(told, least, most):
+    """Whether this is a list of numbers, each from least to most."""
+    return isinstance(told, list) and all([is_number(one, least, most) for one in told])
+
+
+def of_hex(text):
+    """The bytes that a text of signs tells, two for each byte."""
+    # Python's own reading also takes blanks and capital letters, so the signs are looked at first.
+    if not isinstance(text, str) or len(text) & 1 or not all([sign in SIGNS for sign in text]):
+        raise BadHex("no text of an even count of signs of 0 to 9, a to f")
+    return bytes.fromhex(text)
+
+
+def hex_of(told):
+    """The text of signs that tells these bytes."""
+    if not isinstance(told, bytes):
+        raise BadBytes("no bytes")
+    return told.hex()
