@@ -316,8 +316,10 @@ class TestLeastLengths(unittest.TestCase):
 
     def test_bounds_out_of_bounds(self):
         for bound in (0, 13, -1, 10 ** 30, -10 ** 30):
-            with self.subTest(bound), self.assertRaises(BadBound):
-                least_lengths([1, 1], bound)
+            # One letter alone needs no more than a bound of 0, which is none.
+            for weights in ([1, 1], [1, 0]):
+                with self.subTest((weights, bound)), self.assertRaises(BadBound):
+                    least_lengths(weights, bound)
 
     def test_bound_too_small_for_the_letters(self):
         for bound in range(1, 9):
