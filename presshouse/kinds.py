@@ -5,17 +5,34 @@ from presshouse.errors import BadBytes, BadHex
 SIGNS = "0123456789abcdef"
 
 
+def is_whole(told):
+    """Whether this is a whole number."""
+    # Python takes True and False for 1 and 0; the document does not.
+    return isinstance(told, int) and not isinstance(told, bool)
+
+
 def is_number(told, least, most):
     """Whether this is a whole number from least to most."""
-    # Python takes True and False for 1 and 0; the document does not.
-    if isinstance(told, bool) or not isinstance(told, int):
-        return False
-    return least <= told <= most
+    return is_whole(told) and least <= told <= most
 
 
 def are_numbers(told, least, most):
     """Whether this is a list of numbers, each from least to most."""
     return isinstance(told, list) and all([is_number(one, least, most) for one in told])
+
+
+def are_bytes(told, most):
+    """Whether these are bytes, and no more than so many."""
+    return isinstance(told, bytes) and len(told) <= most
+
+
+def copied(told):
+    """The same, but with a new list for each list in it."""
+    if isinstance(told, list):
+        return [copied(one) for one in told]
+    if isinstance(told, tuple):
+        return tuple([copied(one) for one in told])
+    return told
 
 
 def of_hex(text):
