@@ -4,6 +4,9 @@ from presshouse.errors import BadBytes, BadHex
 
 SIGNS = "0123456789abcdef"
 
+# Sums of bytes are told modulo this.
+MODULUS = 65521
+
 
 def is_whole(told):
     """Whether this is a whole number."""

@@ -2,8 +2,9 @@
 
 from presshouse.errors import BadBytes, BadItems, BadPrices
 from presshouse.kinds import are_bytes, copied, is_whole
-from presshouse.places import Fares, Places, costs_of, fewest, row_of, steps_at
+from presshouse.places import Places
 from presshouse.prices import Prices
+from presshouse.roads import FAR, Fares, Road
 from presshouse.rows import MOST_AHEAD, bits_of, bytes_behind
 
 MOST_BYTES = 2000
@@ -42,12 +43,11 @@ def least(data, prices, *, ahead=b""):
         raise BadBytes("no bytes of at most 2000, or none of at most 4096 ahead")
     if not isinstance(prices, Prices):
         raise BadPrices("no prices")
-    places = Places(data, ahead)
-    fares = Fares(prices)
-    costs = costs_of(places, fares, 0, len(data))
+    road = Road(Places(data, ahead), Fares(prices.letters(), prices.backs()), 0, len(data))
+    costs = road.told_costs()
     if costs[0] is None:
         return Never(costs)
-    return Least(row_of(places, fares, costs, 0, len(data)), costs)
+    return Least(road.row_from(0), costs)
 
 
 def are_costs(costs, data):
@@ -68,9 +68,15 @@ def tells(row, data, ahead):
 def none_is_cheaper(costs, data, prices, ahead):
     """Whether no item leads from its place for fewer bits than the costs say."""
     places = Places(data, ahead)
-    fares = Fares(prices)
+    fares = Fares(prices.letters(), prices.backs())
     for at in range(len(data)):
-        found = fewest(steps_at(places, fares, at, len(data)), costs, at)
-        if found is not None and (costs[at] is None or found < costs[at]):
+        found = [bits + costs[at + many] for many, bits in steps_at(places, fares, at) if costs[at + many] is not None]
+        if found and (costs[at] is None or min(found) < costs[at]):
             return False
     return True
+
+
+def steps_at(places, fares, at):
+    """What can be used at a place: pairs, how many bytes, and the fewest bits for them."""
+    steps = [(1, fares.byte_bits[places.data[at]])] + fares.steps_of(places.pairs_at(at))
+    return [(many, bits) for many, bits in steps if bits < FAR]

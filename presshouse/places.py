@@ -1,117 +1,85 @@
-"""What can stand at each place of bytes, for how many bits, and the least ways from there."""
+"""What can be copied at each place of bytes, and from how far back."""
 
-from presshouse.prices import AHEAD_OF_COPIES, BACKS, FARTHEST, FEWEST_COPIED, MOST_COPIED
+from presshouse.prices import BACKS, FARTHEST, FEWEST_COPIED, MOST_COPIED
+
+# By letters.
+FARTHEST_BACKS = (1, 3, 7, 15, 31, 63, 127, 255, 511, 1023, 1024)
 
 
 class Places:
-    """The places of bytes that stand behind others: what can be copied at each."""
+    """The places of bytes that stand behind others, and what can be copied at each.
+
+    That is a list of pairs, rising: how many bytes, and the letters of the backs from
+    which so many can be copied, as the sum of 2 to each letter. Many places have the
+    same list, so the lists stand in `pairs`, and `kinds` tells which one a place has;
+    the first one is that of the places where nothing can be copied.
+    """
 
     def __init__(self, data, ahead):
+        self.data = data
         self.whole = ahead + data
         self.start = len(ahead)
-        self.reached = reaches(self.whole, len(ahead))
+        self.pairs = [[]]
+        self.kinds = []
+        self.look_at_all()
 
-    def byte_at(self, at):
-        """The byte that stands at a place."""
-        return self.whole[self.start + at]
+    def look_at_all(self):
+        """Find what can be copied at each place."""
+        reached = (0,) * BACKS
+        known = {reached: 0}
+        for place in range(self.start, len(self.whole)):
+            reached = reached_at(self.whole, place, reached)
+            if reached not in known:
+                known[reached] = len(self.pairs)
+                self.pairs.append(pairs_of(reached))
+            self.kinds.append(known[reached])
+
+    def pairs_at(self, at):
+        """What can be copied at a place."""
+        return self.pairs[self.kinds[at]]
 
     def least_back(self, at, many, letter):
         """The least back of a letter from which so many bytes can be copied at a place."""
         place = self.start + at
-        wanted = self.whole[place:place + many]
-        back = 1 << letter
-        while self.whole[place - back:place - back + many] != wanted:
-            back += 1
-        return back
+        low = max(0, place - FARTHEST_BACKS[letter])
+        return place - self.whole.rfind(self.whole[place:place + many], low, place - (1 << letter) + many)
 
 
-class Fares:
-    """What items cost by prices."""
-
-    def __init__(self, prices):
-        self.lengths = prices.letters()
-        # The cheapest first, of equal ones those of the least backs.
-        self.cheapest = sorted([(bits + letter, letter) for letter, bits in enumerate(prices.backs()) if bits > 0])
-
-
-def reaches(whole, start):
-    """For each place from start on the most bytes to copy there, by letters of backs.
-
-    The list of a place where nothing can be copied is empty.
-    """
-    found = []
-    # By backs from 1 on: how many bytes from here on are as those so far back.
-    runs = [0] * FARTHEST
-    for place in reversed(range(start, len(whole))):
-        byte = whole[place]
-        behind = whole[max(0, place - FARTHEST):place]
-        runs = [run + 1 if other == byte else 0 for run, other in zip(runs, behind[::-1])]
-        found.append(by_letters(runs) if max(runs, default=0) >= FEWEST_COPIED else [])
-    return found[::-1]
+def reached_at(whole, place, ahead):
+    """The most bytes that can be copied at a place, by letters of backs, from what could be at the place ahead."""
+    first = whole[place:place + FEWEST_COPIED]
+    if len(first) < FEWEST_COPIED or whole.find(first, max(0, place - FARTHEST), place + FEWEST_COPIED - 1) < 0:
+        return (0,) * BACKS
+    most = min(MOST_COPIED, len(whole) - place)
+    # From the same back all but the first byte can be copied at the next place, too.
+    return tuple([reached_by(whole, place, letter, known - 1, most) for letter, known in enumerate(ahead)])
 
 
-def by_letters(runs):
-    """The longest run among the backs of each letter, as far as one copy goes."""
-    longest = [max(runs[(1 << letter) - 1:(2 << letter) - 1], default=0) for letter in range(BACKS)]
-    return [min(run, MOST_COPIED) for run in longest]
+def reached_by(whole, place, letter, known, most):
+    """The most bytes that can be copied by the backs of a letter, so many of them being known; 0 where too few."""
+    many = max(known, FEWEST_COPIED - 1)
+    low = max(0, place - FARTHEST_BACKS[letter])
+    # Behind the last place to copy from, where there is one.
+    high = place - (1 << letter) + 1
+    while high > low and many < most:
+        # Where fewer were not found, more are not, either.
+        low = whole.find(whole[place:place + many + 1], low, high + many)
+        if low < 0:
+            break
+        many += 1
+    return many if many >= FEWEST_COPIED else 0
 
 
-def steps_at(places, fares, at, end):
-    """What can be used at a place: pairs, how many bytes, rising, and the fewest bits for them."""
-    steps = []
-    bits = fares.lengths[places.byte_at(at)]
-    if bits > 0:
-        steps.append((1, bits))
-    reached = places.reached[at]
-    if not reached:
-        return steps
-    far = FEWEST_COPIED
-    for worth, letter in fares.cheapest:
-        # What a cheaper letter of backs reaches is not looked at again.
-        for many in range(far, min(reached[letter], end - at) + 1):
-            bits = fares.lengths[AHEAD_OF_COPIES + many]
-            if bits > 0:
-                steps.append((many, bits + worth))
-            far = many + 1
-    return steps
-
-
-def fewest(steps, costs, at):
-    """The fewest bits from a place on by steps and the costs behind it, None where it can't be."""
-    found = [bits + costs[at + many] for many, bits in steps if costs[at + many] is not None]
-    return min(found) if found else None
-
-
-def costs_of(places, fares, start, end):
-    """The fewest bits up to the end from each place on, from start on; ahead of it there is None."""
-    costs = [None] * end + [0]
-    for at in reversed(range(start, end)):
-        costs[at] = fewest(steps_at(places, fares, at, end), costs, at)
-    return costs
-
-
-def row_of(places, fares, costs, start, end):
-    """The row with the fewest bits that is told of several."""
-    row = []
-    at = start
-    while at < end:
-        many = step_taken(steps_at(places, fares, at, end), costs, at)
-        row.append(item_at(places, fares, at, many))
-        at += many
-    return row
-
-
-def step_taken(steps, costs, at):
-    """How many bytes the item tells that is first of those with the fewest bits."""
-    first = [many for many, bits in steps if costs[at + many] is not None and bits + costs[at + many] == costs[at]]
-    # They rise: a byte is ahead of all, else the longest copy.
-    return 1 if first[0] == 1 else first[-1]
-
-
-def item_at(places, fares, at, many):
-    """The byte at a place, or the cheapest copy of so many bytes, from the least back."""
-    if many == 1:
-        return places.byte_at(at)
-    reached = places.reached[at]
-    letters = [letter for _, letter in fares.cheapest if reached[letter] >= many]
-    return many, places.least_back(at, many, letters[0])
+def pairs_of(reached):
+    """The pairs of a place by how far the letters of backs reach there."""
+    longest = max(reached)
+    # By how many bytes: the letters that reach just so far.
+    ending = [0] * (longest + 1)
+    for letter, many in enumerate(reached):
+        ending[many] += 1 << letter
+    pairs = []
+    letters = 0
+    for many in reversed(range(FEWEST_COPIED, longest + 1)):
+        letters += ending[many]
+        pairs.append((many, letters))
+    return pairs[::-1]

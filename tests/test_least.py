@@ -1,3 +1,4 @@
+import functools
 import itertools
 import random
 import time
@@ -15,6 +16,7 @@ NO_PRICES = [None, True, 1, "", [], {}, ([8] * 239 + [9] * 34, [4] * 6 + [3] * 5
 KINDS = [(273, 11), (273, 10), (270, 5), (200, 11), (150, 3), (273, 1), (273, 0), (20, 11), (2, 2), (1, 1)]
 
 
+@functools.lru_cache(None)
 def own_back(back):
     return [c for c in range(11) if 2 ** c <= back < 2 ** (c + 1)][0]
 
