@@ -78,5 +78,6 @@ def none_is_cheaper(costs, data, prices, ahead):
 
 def steps_at(places, fares, at):
     """What can be used at a place: pairs, how many bytes, and the fewest bits for them."""
-    steps = [(1, fares.byte_bits[places.data[at]])] + fares.steps_of(places.pairs_at(at))
+    steps = [(1, fares.letter_bits[places.data[at]])]
+    steps.extend([(many, fares.bits_of_copy(many, letters)) for many, letters in places.pairs_at(at)])
     return [(many, bits) for many, bits in steps if bits < FAR]

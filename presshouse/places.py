@@ -48,7 +48,8 @@ class Places:
 def reached_at(whole, place, ahead):
     """The most bytes that can be copied at a place, by letters of backs, from what could be at the place ahead."""
     first = whole[place:place + FEWEST_COPIED]
-    if len(first) < FEWEST_COPIED or whole.find(first, max(0, place - FARTHEST), place + FEWEST_COPIED - 1) < 0:
+    # Most places of most bytes have nothing to copy, which one look tells.
+    if whole.find(first, max(0, place - FARTHEST), place + FEWEST_COPIED - 1) < 0:
         return (0,) * BACKS
     most = min(MOST_COPIED, len(whole) - place)
     # From the same back all but the first byte can be copied at the next place, too.

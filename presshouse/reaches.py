@@ -88,9 +88,9 @@ def least_row(reaches, costs):
 
 def none_is_cheaper(reaches, costs):
     """Whether no item leads from its place for fewer bits than any such costs say."""
-    # So far that no item leads there from a place that has a cost.
-    far = max([one for one in costs if one is not None]) + OLD_BITS + 1
-    costs = [far if one is None else one for one in costs]
+    # A byte can stand at each place, so none is without a cost.
+    if None in costs:
+        return False
     for at in range(len(reaches.new)):
         found = [BYTE_BITS + costs[at + 1]]
         if reaches.many_new[at] >= FEWEST_NEW:

@@ -10,16 +10,15 @@ class Fares:
     """What items cost by lengths of letters and of backs."""
 
     def __init__(self, letters, backs):
-        self.byte_bits = [bits if bits > 0 else FAR for bits in letters]
-        self.copy_bits = self.byte_bits[AHEAD_OF_COPIES:]
+        self.letter_bits = [bits if bits > 0 else FAR for bits in letters]
+        self.copy_bits = self.letter_bits[AHEAD_OF_COPIES:]
         self.worths = worths_of(backs)
         # The cheapest first, of equal ones those of the least backs.
         self.cheapest = sorted([(bits + letter, letter) for letter, bits in enumerate(backs) if bits > 0])
 
-    def steps_of(self, pairs):
-        """The copies that can be used, as pairs: how many bytes, and the fewest bits for them."""
-        return [(many, self.copy_bits[many] + self.worths[letters]) for many, letters in pairs
-                if self.copy_bits[many] < FAR and self.worths[letters] < FAR]
+    def bits_of_copy(self, many, letters):
+        """The fewest bits by which so many bytes are copied from a back of some letters."""
+        return self.copy_bits[many] + self.worths[letters]
 
     def cheapest_of(self, letters):
         """The letter of backs that costs least of several, of equal ones the least."""
@@ -78,7 +77,7 @@ def costs_of(places, fares, start, end):
     copy_bits = fares.copy_bits
     worths = fares.worths
     for at in reversed(range(start, end)):
-        best = min(FAR, fares.byte_bits[places.data[at]] + costs[at + 1])
+        best = min(FAR, fares.letter_bits[places.data[at]] + costs[at + 1])
         for many, letters in places.pairs[places.kinds[at]]:
             # Own words are words for few lengths of copies, so the others are left aside first of all.
             if copy_bits[many] < FAR:
@@ -92,11 +91,12 @@ def costs_of(places, fares, start, end):
 
 def first_of(places, fares, costs, at):
     """The item that is told of those with the fewest bits, as a pair: a byte, else the longest copy."""
-    if fares.byte_bits[places.data[at]] + costs[at + 1] == costs[at]:
+    if fares.letter_bits[places.data[at]] + costs[at + 1] == costs[at]:
         return 1, 0
-    least = [many for many, bits in fares.steps_of(places.pairs_at(at)) if bits + costs[at + many] == costs[at]]
-    letters = [letters for many, letters in places.pairs_at(at) if many == least[-1]]
-    return least[-1], fares.cheapest_of(letters[0])
+    least = [(many, letters) for many, letters in places.pairs_at(at)
+             if fares.bits_of_copy(many, letters) + costs[at + many] == costs[at]]
+    many, letters = least[-1]
+    return many, fares.cheapest_of(letters)
 
 
 def item_at(places, step):

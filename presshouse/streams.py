@@ -10,6 +10,7 @@ from presshouse.rows import MOST_AHEAD
 MOST_PRESSED = 4000
 LEAST_STEP = 16
 MOST_STEPS = 32
+PIECE_BYTES = 64
 
 
 def cut(data, step, *, ahead=b""):
@@ -30,7 +31,9 @@ def opened(stream, *, ahead=b""):
     if not isinstance(stream, bytes) or not are_bytes(ahead, MOST_AHEAD):
         raise BadBytes("no bytes, or none of at most 4096 ahead")
     reading = Reading(ahead)
-    reading.hear_piece(stream)
+    # Piece by piece, as one that slips early need not be looked at up to its end.
+    for at in range(0, len(stream), PIECE_BYTES):
+        reading.hear_piece(stream[at:at + PIECE_BYTES])
     if not reading.was_over():
         raise BadStream(reading.many_bits())
     return reading.told_bytes()

@@ -185,6 +185,34 @@ class TestBlocks(unittest.TestCase):
         self.assertEqual(ways(data, ahead=ahead), ways(data, ahead=ahead[-1024:]))
         self.assertNotEqual(ways(data, ahead=ahead), ways(data, ahead=ahead[-1023:]))
 
+    def test_backs_have_words_of_at_most_6(self):
+        # Each back's letter is used twice as often as the one ahead of it: without a bound words of 7 would be least.
+        chance = random.Random(10)
+        ahead, data = chance.randbytes(1100), b""
+        letters = [letter for letter in range(3, 11) for _ in range(2 ** max(0, 9 - letter))]
+        chance.shuffle(letters)
+        for letter in letters:
+            whole = ahead + data
+            at = len(whole) - chance.randrange(max(9, 2 ** letter), min(1025, 2 ** (letter + 1)))
+            data += whole[at:at + 9]
+        row = own_row(data, OWN_TOLD, ahead)
+        backs = [len(bin(item[1])) - 3 for item in row if not isinstance(item, int)]
+        counts = [backs.count(c) for c in range(11)]
+        self.assertEqual(max(lengths_by_point_3(counts, 12)), 7)
+        self.assertEqual(max(own_lengths(row)[1]), 6)
+        self.check(data, ahead)
+
+    def test_backs_at_the_bounds_of_letters(self):
+        chance = random.Random(11)
+        told_word = bytes(range(200, 212))
+        for back in sorted({2 ** c + more for c in range(4, 11) for more in (-1, 0, 1)} | {1022, 1026}):
+            between = bytes(chance.randrange(190) for _ in range(back - 12)) if back > 12 else b""
+            for near in (b"", told_word[:3], told_word[:5]):
+                ahead = told_word + between[:len(between) - len(near)] + near
+                if len(ahead) == back:
+                    self.check(told_word, ahead)
+                    self.check(told_word[:4], b"xyz" + ahead)
+
     def test_drawn_bytes(self):
         chance = random.Random(7)
         sorts = []

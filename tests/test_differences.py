@@ -551,7 +551,7 @@ class TestNoDifferences(unittest.TestCase):
 
     def test_what_is_no_item(self):
         for none in NO_ITEMS:
-            for many in (6, 7, 8, 9, 15, 16, 5, 1):
+            for many in (4, 5, 6, 7, 8, 9, 15, 16, 1):
                 self.refused(((10, 1), (many, 1), [97] * 5 + [none]))
             self.refused(((10, 1), (6, 1), [none] + [97] * 5))
         for item, many in ((0, 1), (255, 1), (("new", 3, 5), 3), (("new", 3, 1), 3), (("new", 255, 5), 255), (("old", 1, 0), 1),

@@ -196,6 +196,31 @@ class TestPacks(unittest.TestCase):
                 with self.assertRaises(BadFiles):
                     packed(files)
 
+    def test_names_that_entries_have(self):
+        stream = pressed(b"abc")
+        for name in ("a", "z", "az", "abcdefgh", "stuvwxyz"):
+            self.assertEqual(self.check(own_entry(name, b"abc", stream) + own_tail(1)), [(name, b"abc")])
+        for name in ("", "abcdefghi", "A", "aZ", "a`", "{a", "a{b", "1", "a b", "\x00", "\xe4", "_"):
+            pack = own_entry(name, b"abc", stream) + own_tail(1)
+            self.assertIsNone(self.check(pack))
+            self.assertEqual(saved(pack), {})
+
+    def test_sizes_of_streams(self):
+        stream = pressed(b"abcabc")
+        entry = own_entry("a", b"abcabc", stream)
+        for size in (0, len(stream) - 1, len(stream) + 1, len(stream) + 2, len(stream) + 256, 65535):
+            told = entry[:3] + bytes([size // 256, size % 256]) + entry[5:]
+            for rest in (b"", own_tail(1)):
+                self.assertIsNone(self.check(told + rest))
+                self.assertEqual(saved(told + rest), {})
+        self.assertEqual(saved(entry), {"a": b"abcabc"})
+
+    def test_the_step_is_256(self):
+        chance = random.Random(9)
+        data = chance.randbytes(256) + some_bytes(chance, 300, 3)
+        self.assertEqual(own_cut(data, 256, b"")[0], [256, 556])
+        self.check_files({"a": data})
+
     def test_what_is_no_dict_of_files(self):
         for none in (None, True, 1, "", "abc", b"", b"abc", [], [("a", b"")], (("a", b""),), ("a", b""), {"a"}, {"a": b""}.items(), dict):
             with self.assertRaises(BadFiles):
