@@ -3,7 +3,7 @@
 from presshouse.prices import AHEAD_OF_COPIES, MOST_COPIED
 
 # More bits than any row has: what can't be used costs so many.
-FAR = 1 << 30
+FAR = 1000000000
 
 
 class Fares:
